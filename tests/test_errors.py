@@ -1,0 +1,74 @@
+import unittest
+
+from evenmeet import errors
+from evenmeet.errors import MeetError
+from evenmeet.forms import form_told, shuts
+from evenmeet.numbers import is_rest, plain_part, primes_of, root_of, shared
+
+VALUES = {
+    "NoNumber": None,
+    "NoLayout": "place",
+    "NoRow": None,
+    "NoText": None,
+    "NoDual": None,
+    "NoPart": None,
+    "NoField": "factor",
+    "NoNet": None,
+    "NoBases": "place",
+    "NoArc": "block",
+    "NoMeeting": "block",
+    "NoWish": None,
+    "NoDeskRow": None,
+    "NoName": None,
+}
+
+
+class Errors(unittest.TestCase):
+    def test_meet_error_stands_straight_under_value_error(self):
+        self.assertEqual(MeetError.__bases__, (ValueError,))
+
+    def test_each_class_is_there_under_meet_error_and_no_other(self):
+        for name in VALUES:
+            self.assertEqual(getattr(errors, name).__bases__, (MeetError,), name)
+            for other in VALUES:
+                if other != name:
+                    self.assertFalse(issubclass(getattr(errors, name), getattr(errors, other)), (name, other))
+
+    def test_each_error_can_be_taken_as_a_refusal(self):
+        for name in VALUES:
+            kind = getattr(errors, name)
+            for base in (kind, MeetError, ValueError):
+                with self.assertRaises(base):
+                    raise kind(3)
+
+    def test_values_are_set_when_the_error_is_made(self):
+        for name, value in VALUES.items():
+            if value is not None:
+                for told in (None, 0, 7, (1, 1)):
+                    self.assertEqual(getattr(getattr(errors, name)(told), value), told, name)
+
+    def test_a_place_or_factor_that_is_not_told_is_none(self):
+        self.assertIsNone(errors.NoLayout().place)
+        self.assertIsNone(errors.NoBases().place)
+        self.assertIsNone(errors.NoField().factor)
+
+    def test_each_refusal_has_just_its_own_class(self):
+        asked = [
+            lambda: shared(None, 1),
+            lambda: primes_of(0),
+            lambda: root_of(-1),
+            lambda: plain_part(0),
+            lambda: is_rest(1, 4),
+            lambda: is_rest("1", 3),
+            lambda: form_told(0, 1),
+            lambda: form_told(1, True),
+            lambda: shuts(1, 0, 3),
+        ]
+        for ask in asked:
+            with self.assertRaises(MeetError) as caught:
+                ask()
+            self.assertIs(type(caught.exception), errors.NoNumber)
+
+
+if __name__ == "__main__":
+    unittest.main()
