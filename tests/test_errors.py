@@ -1,8 +1,11 @@
 import unittest
 
 from evenmeet import errors
+from evenmeet.changes import at_block, at_point, dual, off_block, off_point
 from evenmeet.errors import MeetError
 from evenmeet.forms import form_told, shuts
+from evenmeet.layouts import layout_of, renamed
+from evenmeet.layouttexts import read_layout
 from evenmeet.numbers import is_rest, plain_part, primes_of, root_of, shared
 
 VALUES = {
@@ -68,6 +71,35 @@ class Errors(unittest.TestCase):
             with self.assertRaises(MeetError) as caught:
                 ask()
             self.assertIs(type(caught.exception), errors.NoNumber)
+
+    def test_each_refusal_of_layouts_has_just_its_own_class(self):
+        M = (2, ((), (0, 1)))
+        asked = [
+            ("NoLayout", lambda: layout_of(0, [])),
+            ("NoLayout", lambda: layout_of(2, [[0], [None]])),
+            ("NoLayout", lambda: layout_of(2, [[0, 0]])),
+            ("NoLayout", lambda: layout_of(2, [[]] * 201)),
+            ("NoLayout", lambda: read_layout("2: 2")),
+            ("NoRow", lambda: renamed(M, (0, 1))),
+            ("NoRow", lambda: renamed(M, [0, 0])),
+            ("NoText", lambda: read_layout("2")),
+            ("NoText", lambda: read_layout(None)),
+            ("NoDual", lambda: dual((2, ()))),
+            ("NoDual", lambda: dual((2, ((),) * 61))),
+            ("NoPart", lambda: at_point(M, 2)),
+            ("NoPart", lambda: off_point(M, None)),
+            ("NoPart", lambda: off_point((1, ()), 0)),
+            ("NoPart", lambda: at_block(M, 0)),
+            ("NoPart", lambda: off_block(M, 1)),
+            ("NoPart", lambda: off_block(M, "0")),
+        ]
+        for name, ask in asked:
+            with self.assertRaises(MeetError) as caught:
+                ask()
+            self.assertIs(type(caught.exception), getattr(errors, name))
+            self.assertIsInstance(caught.exception, ValueError)
+            for other in VALUES:
+                self.assertEqual(isinstance(caught.exception, getattr(errors, other)), other == name)
 
 
 if __name__ == "__main__":

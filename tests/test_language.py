@@ -29,6 +29,13 @@ WORDS_OUT = """
 """.split()
 
 
+METHODS = """
+    append clear copy count endswith extend find get index insert isalnum isalpha isdigit islower isspace isupper items
+    join keys ljust lower lstrip partition pop remove replace reverse rfind rjust rpartition rsplit rstrip setdefault
+    split splitlines startswith strip update upper values zfill bit_length
+""".split()
+
+
 def package_files():
     return sorted(path for path in PACKAGE.iterdir() if path.name != "__pycache__")
 
@@ -99,6 +106,54 @@ class Language(unittest.TestCase):
                     self.assertEqual(node.level, 0)
                     self.assertRegex(node.module, r"^evenmeet\.")
                     self.assertNotIn("*", [alias.name for alias in node.names])
+
+    def test_imports_come_from_the_file_that_defines_the_name_and_never_in_a_ring(self):
+        defined = {}
+        drawn = {}
+        for path in package_files():
+            text, tree = read(path)
+            rows = [node for node in tree.body if isinstance(node, ast.ImportFrom)]
+            drawn[path.stem] = [node.module.partition(".")[2] for node in rows]
+            names = [node.name for node in tree.body if isinstance(node, (ast.FunctionDef, ast.ClassDef))]
+            names += [node.targets[0].id for node in tree.body if isinstance(node, ast.Assign)]
+            self.assertEqual(len(names), len(set(names)), path.name)
+            defined[path.stem] = names
+        for path in package_files():
+            for node in read(path)[1].body:
+                if isinstance(node, ast.ImportFrom):
+                    for alias in node.names:
+                        self.assertIn(alias.name, defined[node.module.partition(".")[2]], path.name)
+        left = dict(drawn)
+        while left:
+            free = [name for name in left if not any(other in left for other in left[name])]
+            self.assertTrue(free, left)
+            for name in free:
+                del left[name]
+
+    def test_methods_and_comparisons(self):
+        own = [part.name for path in package_files() for part in methods_of(read(path)[1]) if hasattr(part, "name")]
+        for path in package_files():
+            text, tree = read(path)
+            for node in ast.walk(tree):
+                if isinstance(node, ast.Call) and isinstance(node.func, ast.Attribute):
+                    self.assertIn(node.func.attr, METHODS + own, (path.name, node.lineno))
+                if isinstance(node, ast.Compare) and any(isinstance(op, (ast.Is, ast.IsNot)) for op in node.ops):
+                    self.assertIsInstance(node.comparators[0], ast.Constant, (path.name, node.lineno))
+                if isinstance(node, ast.comprehension):
+                    self.assertLessEqual(len(node.ifs), 1, path.name)
+                if isinstance(node, ast.ListComp):
+                    self.assertEqual(len(node.generators), 1, (path.name, node.lineno))
+
+    def test_no_parameter_or_local_is_called_like_a_class_or_an_import(self):
+        for path in package_files():
+            text, tree = read(path)
+            top = [alias.name for node in tree.body if isinstance(node, ast.ImportFrom) for alias in node.names]
+            top += [node.name for node in tree.body if isinstance(node, ast.ClassDef)]
+            for node in ast.walk(tree):
+                if isinstance(node, ast.arg):
+                    self.assertNotIn(node.arg, top, path.name)
+                elif isinstance(node, ast.Name) and isinstance(node.ctx, ast.Store):
+                    self.assertNotIn(node.id, top, path.name)
 
     def test_names(self):
         for path in package_files():
