@@ -1,7 +1,8 @@
 """Changes: the complement and the dual of a layout, and its parts at and off a point or a block."""
 
 from evenmeet.errors import NoDual, NoPart
-from evenmeet.layouts import MOST_POINTS, is_below
+from evenmeet.layouts import MOST_POINTS
+from evenmeet.numbers import is_below
 
 
 def complement(M):

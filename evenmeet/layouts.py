@@ -1,7 +1,7 @@
 """Layouts: tuples (V, BLOCKS) of V points and a tuple of blocks, each a rising tuple of points."""
 
 from evenmeet.errors import NoLayout, NoRow
-from evenmeet.numbers import is_whole
+from evenmeet.numbers import is_below, is_whole
 
 MOST_POINTS = 60
 MOST_BLOCKS = 200
@@ -42,7 +42,3 @@ def is_row(thing, points):
 def are_unlike_points(things, points):
     # That all are points is asked first: a thing of another kind may have no hash, or be equal to a point.
     return all([is_below(thing, points) for thing in things]) and len(set(things)) == len(things)
-
-
-def is_below(thing, many):
-    return is_whole(thing) and 0 <= thing < many

@@ -7,6 +7,10 @@ def is_whole(thing):
     return isinstance(thing, int) and not isinstance(thing, bool)
 
 
+def is_below(thing, many):
+    return is_whole(thing) and 0 <= thing < many
+
+
 def must_be_whole(thing):
     if not is_whole(thing):
         raise NoNumber("this is no whole number")

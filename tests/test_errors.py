@@ -3,9 +3,11 @@ import unittest
 from evenmeet import errors
 from evenmeet.changes import at_block, at_point, dual, off_block, off_point
 from evenmeet.errors import MeetError
+from evenmeet.fields import Field
 from evenmeet.forms import form_told, shuts
 from evenmeet.layouts import layout_of, renamed
 from evenmeet.layouttexts import read_layout
+from evenmeet.nets import squares_back
 from evenmeet.numbers import is_rest, plain_part, primes_of, root_of, shared
 
 VALUES = {
@@ -93,6 +95,32 @@ class Errors(unittest.TestCase):
             ("NoPart", lambda: off_block(M, 1)),
             ("NoPart", lambda: off_block(M, "0")),
         ]
+        self.check_classes(asked)
+
+    def test_each_refusal_of_fields_and_nets_has_just_its_own_class(self):
+        four = Field(2, (1, 1, 1))
+        asked = [
+            ("NoField", lambda: Field(1, (0, 1))),
+            ("NoField", lambda: Field("2", (0, 1))),
+            ("NoField", lambda: Field(2, [0, 1])),
+            ("NoField", lambda: Field(2, (0, 2))),
+            ("NoField", lambda: Field(37, (0, 1))),
+            ("NoField", lambda: Field(4, (0, 1))),
+            ("NoField", lambda: Field(2, (0, 0, 1))),
+            ("NoNumber", lambda: four.plus(4, 0)),
+            ("NoNumber", lambda: four.minus(0, -1)),
+            ("NoNumber", lambda: four.times(True, 1)),
+            ("NoNumber", lambda: four.back(0)),
+            ("NoNumber", lambda: four.back(None)),
+            ("NoNet", lambda: squares_back((2, ()))),
+            ("NoNet", lambda: squares_back((4, ((0, 1), (2, 3))))),
+            ("NoNet", lambda: squares_back((4, ((0, 1), (2, 3), (0, 1), (2, 3))))),
+            ("NoNet", lambda: squares_back((4, ((0, 1), (2, 3), (0, 2), (1,))))),
+            ("NoNet", lambda: squares_back((4, ((0, 1), (2, 3), (0, 2), (0, 1, 3))))),
+        ]
+        self.check_classes(asked)
+
+    def check_classes(self, asked):
         for name, ask in asked:
             with self.assertRaises(MeetError) as caught:
                 ask()

@@ -2,7 +2,7 @@ import unittest
 
 from evenmeet.errors import NoNumber
 from evenmeet.forms import form_told, shuts
-from tests.things import is_plain_prime, is_shut, no_wholes, told_numbers
+from tests.things import is_shut, no_wholes, told_numbers
 
 MOST = 10 ** 6
 SMALL = [n for n in range(-33, 34) if n != 0]

@@ -144,6 +144,32 @@ class Language(unittest.TestCase):
                 if isinstance(node, ast.ListComp):
                     self.assertEqual(len(node.generators), 1, (path.name, node.lineno))
 
+    def test_no_name_is_a_method_in_one_class_and_a_value_in_another(self):
+        methods = []
+        values = []
+        for path in package_files():
+            text, tree = read(path)
+            methods += [part.name for part in methods_of(tree) if isinstance(part, ast.FunctionDef)]
+            values += [node.attr for node in ast.walk(tree)
+                       if isinstance(node, ast.Attribute) and isinstance(node.ctx, ast.Store)]
+        self.assertFalse(set(methods) & set(values))
+        for name in set(methods + values) - {"__init__"}:
+            for kind in (str, int, list, tuple, dict, set, frozenset, bytes):
+                self.assertFalse(hasattr(kind, name), name)
+
+    def test_a_set_is_only_asked_compared_sorted_or_counted(self):
+        for path in package_files():
+            text, tree = read(path)
+            above = {child: node for node in ast.walk(tree) for child in ast.iter_child_nodes(node)}
+            for node in ast.walk(tree):
+                self.assertNotIsInstance(node, ast.Set, path.name)
+                if isinstance(node, ast.Call) and isinstance(node.func, ast.Name) and node.func.id == "set":
+                    around = above[node]
+                    while isinstance(around, ast.BinOp):
+                        around = above[around]
+                    asked = isinstance(around, ast.Call) and getattr(around.func, "id", "") in ("len", "sorted")
+                    self.assertTrue(asked or isinstance(around, ast.Compare), (path.name, node.lineno))
+
     def test_no_parameter_or_local_is_called_like_a_class_or_an_import(self):
         for path in package_files():
             text, tree = read(path)

@@ -134,6 +134,75 @@ def even_others():
     return told
 
 
+def all_rows(p, many):
+    """All rows of so many numbers by p, the last one 1."""
+    return [lower + (1,) for lower in itertools.product(range(p), repeat=many - 1)]
+
+
+def plain_product(p, one, other):
+    """By way of one long number each, whose figures are far enough apart to add up without a carry."""
+    apart = 10 ** 12
+    product = sum(digit * apart ** place for place, digit in enumerate(one))
+    product *= sum(digit * apart ** place for place, digit in enumerate(other))
+    digits = []
+    while product:
+        digits.append(product % apart % p)
+        product //= apart
+    while digits and digits[-1] == 0:
+        digits.pop()
+    return tuple(digits)
+
+
+def plain_products(p, many):
+    """The rows of so many numbers that are products of two rows of two or more."""
+    told = set()
+    for fewer in range(2, (many + 1) // 2 + 1):
+        for one in all_rows(p, fewer):
+            for other in all_rows(p, many + 1 - fewer):
+                told.add(plain_product(p, one, other))
+    return told
+
+
+def field_rows(size):
+    """The prime and, of the rows that make fields of this size, all."""
+    p = min(d for d in range(2, size + 1) if size % d == 0)
+    many = 1
+    while p ** many < size:
+        many += 1
+    products = plain_products(p, many + 1)
+    return p, [row for row in all_rows(p, many + 1) if row not in products]
+
+
+class PlainField:
+    """Digits are added one by one; a product is built from the highest digit, one power of the unknown at a time."""
+
+    def __init__(self, p, row):
+        self.p = p
+        self.row = row
+        self.q = p ** (len(row) - 1)
+
+    def digits(self, number):
+        return [number // self.p ** place % self.p for place in range(len(self.row) - 1)]
+
+    def number(self, digits):
+        return sum(digit % self.p * self.p ** place for place, digit in enumerate(digits))
+
+    def plus(self, a, b):
+        return self.number([x + y for x, y in zip(self.digits(a), self.digits(b))])
+
+    def times(self, a, b):
+        told = [0] * (len(self.row) - 1)
+        for digit in reversed(self.digits(b)):
+            raised = [0] + told[:-1]
+            told = [x - told[-1] * y + digit * z for x, y, z in zip(raised, self.row, self.digits(a))]
+        return self.number(told)
+
+
+def small_fields():
+    """Tuples (prime, row): of each size from 2 to 7 that has fields, all their rows."""
+    return [(field_rows(size)[0], row) for size in (2, 3, 4, 5, 7) for row in field_rows(size)[1]]
+
+
 class LayoutCase(unittest.TestCase):
     def check_is_layout(self, told):
         self.assertIs(type(told), tuple)
