@@ -8,12 +8,16 @@ MOST_BLOCKS = 200
 
 
 def layout_of(points, blocks):
-    if not is_whole(points) or points < 1 or points > MOST_POINTS or len(blocks) > MOST_BLOCKS:
+    if not is_points_number(points) or len(blocks) > MOST_BLOCKS:
         raise NoLayout(None)
     for place, block in enumerate(blocks):
         if not are_unlike_points(block, points):
             raise NoLayout(place)
     return (points, tuple([in_order(block) for block in blocks]))
+
+
+def is_points_number(thing):
+    return is_whole(thing) and 1 <= thing <= MOST_POINTS
 
 
 def sorted_layout(M):

@@ -11,6 +11,10 @@ def is_below(thing, many):
     return is_whole(thing) and 0 <= thing < many
 
 
+def is_just(thing, number):
+    return is_whole(thing) and thing == number
+
+
 def must_be_whole(thing):
     if not is_whole(thing):
         raise NoNumber("this is no whole number")

@@ -9,6 +9,8 @@ from evenmeet.layouts import layout_of, renamed
 from evenmeet.layouttexts import read_layout
 from evenmeet.nets import squares_back
 from evenmeet.numbers import is_rest, plain_part, primes_of, root_of, shared
+from evenmeet.sets import grown_arc, thinned_set
+from evenmeet.turning import developed, differences
 
 VALUES = {
     "NoNumber": None,
@@ -118,6 +120,30 @@ class Errors(unittest.TestCase):
             ("NoNet", lambda: squares_back((4, ((0, 1), (2, 3), (0, 2), (1,))))),
             ("NoNet", lambda: squares_back((4, ((0, 1), (2, 3), (0, 2), (0, 1, 3))))),
         ]
+        self.check_classes(asked)
+
+    def test_each_refusal_of_bases_and_sets_has_just_its_own_class(self):
+        M = (4, ((0, 1, 2), (), (1, 2, 3)))
+        asked = [
+            ("NoArc", lambda: grown_arc(M, [0, 1, 2])),
+            ("NoArc", lambda: grown_arc(M, [1, 2, 3])),
+            ("NoMeeting", lambda: thinned_set(M, [0, 1, 2, 3])),
+            ("NoMeeting", lambda: thinned_set(M, [])),
+        ]
+        for ask in (developed, differences):
+            asked += [
+                ("NoBases", lambda ask=ask: ask(0, [])),
+                ("NoBases", lambda ask=ask: ask(61, [])),
+                ("NoBases", lambda ask=ask: ask(True, [[0]])),
+                ("NoBases", lambda ask=ask: ask("7", [[0]])),
+                ("NoBases", lambda ask=ask: ask(None, [[0]])),
+                ("NoBases", lambda ask=ask: ask(7, [[0]] * 29)),
+                ("NoBases", lambda ask=ask: ask(7, [[0], [1, 1]])),
+                ("NoBases", lambda ask=ask: ask(7, [[7]])),
+                ("NoBases", lambda ask=ask: ask(7, [[-1]])),
+                ("NoBases", lambda ask=ask: ask(7, [[True]])),
+                ("NoBases", lambda ask=ask: ask(7, [None])),
+            ]
         self.check_classes(asked)
 
     def check_classes(self, asked):

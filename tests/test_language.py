@@ -35,6 +35,10 @@ METHODS = """
     split splitlines startswith strip update upper values zfill bit_length
 """.split()
 
+WALKED = "zip enumerate reversed range items keys values".split()
+
+WALKERS = "list tuple dict sorted sum any all enumerate zip min max".split()
+
 
 def package_files():
     return sorted(path for path in PACKAGE.iterdir() if path.name != "__pycache__")
@@ -169,6 +173,18 @@ class Language(unittest.TestCase):
                         around = above[around]
                     asked = isinstance(around, ast.Call) and getattr(around.func, "id", "") in ("len", "sorted")
                     self.assertTrue(asked or isinstance(around, ast.Compare), (path.name, node.lineno))
+
+    def test_what_is_walked_is_walked_at_once(self):
+        for path in package_files():
+            text, tree = read(path)
+            above = {child: node for node in ast.walk(tree) for child in ast.iter_child_nodes(node)}
+            for node in ast.walk(tree):
+                called = getattr(node.func, "id", getattr(node.func, "attr", "")) if isinstance(node, ast.Call) else ""
+                if called in WALKED:
+                    around = above[node]
+                    walked = isinstance(around, (ast.For, ast.comprehension)) and around.iter == node
+                    within = isinstance(around, ast.Call) and getattr(around.func, "id", "") in WALKERS
+                    self.assertTrue(walked or within, (path.name, node.lineno))
 
     def test_no_parameter_or_local_is_called_like_a_class_or_an_import(self):
         for path in package_files():

@@ -134,6 +134,16 @@ def even_others():
     return told
 
 
+def all_blocks(points):
+    return [block for size in range(points + 1) for block in itertools.combinations(range(points), size)]
+
+
+def all_layouts(points, most):
+    """All layouts of so many points with at most so many blocks, in every order."""
+    blocks = all_blocks(points)
+    return [(points, told) for many in range(most + 1) for told in itertools.product(blocks, repeat=many)]
+
+
 def all_rows(p, many):
     """All rows of so many numbers by p, the last one 1."""
     return [lower + (1,) for lower in itertools.product(range(p), repeat=many - 1)]
